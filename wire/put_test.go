@@ -28,6 +28,9 @@ var edges = []struct {
 // impossible are numbers that are no lengths.
 var impossible = []int{-1, -64, math.MinInt, 1 << 30, 1<<30 + 1, 1 << 32, math.MaxInt}
 
+// aheads are bytes behind which something is put.
+var aheads = [][]byte{nil, {}, {9}, []byte("ab"), bytes.Repeat([]byte{0xC0}, 100)}
+
 // notSizes are sizes that no number has.
 var notSizes = []int{0, 3, 5, 6, 7, 9, 16, 64, -1, -8, math.MinInt, math.MaxInt, 1 << 32}
 
@@ -58,8 +61,10 @@ func TestP11PutNum(t *testing.T) {
 		same(t, "PutNum behind", wire.PutNum([]byte("ab"), x.size, x.n), append([]byte("ab"), x.want...))
 	}
 	for _, size := range notSizes {
-		if got := wire.PutNum([]byte("ab"), size, 7); len(got) != 0 {
-			t.Errorf("PutNum of the size %d: % x", size, got)
+		for _, ahead := range aheads {
+			for _, n := range []uint64{0, 7, math.MaxUint64} {
+				same(t, "PutNum of such a size", wire.PutNum(ahead, size, n), ahead)
+			}
 		}
 	}
 }
@@ -73,8 +78,8 @@ func TestP11PutLen(t *testing.T) {
 		}
 	}
 	for _, n := range impossible {
-		if got := wire.PutLen([]byte{9}, n); len(got) != 0 {
-			t.Errorf("PutLen(%d): % x", n, got)
+		for _, ahead := range aheads {
+			same(t, "PutLen of no length", wire.PutLen(ahead, n), ahead)
 		}
 		if got := wire.LenSize(n); got != 0 {
 			t.Errorf("LenSize(%d): %d", n, got)
@@ -112,6 +117,9 @@ func TestP11StaysAsItIs(t *testing.T) {
 		"PutLen":  func(b []byte) []byte { return wire.PutLen(b, 1<<14) },
 		"PutVec":  func(b []byte) []byte { return wire.PutVec(b, []byte("xyz")) },
 		"PutList": func(b []byte) []byte { return wire.PutList(b, [][]byte{[]byte("xyz")}) },
+
+		"PutNum of such a size": func(b []byte) []byte { return wire.PutNum(b, 3, math.MaxUint64) },
+		"PutLen of no length":   func(b []byte) []byte { return wire.PutLen(b, 1<<30) },
 	} {
 		all := bytes.Repeat([]byte{1}, 32)
 		got := put(all[:3])

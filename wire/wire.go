@@ -21,37 +21,41 @@ func LenSize(n int) int {
 	return 4
 }
 
-// PutNum tells b, and n's lowest size bytes behind it.
+// PutNum tells b, and n's lowest size bytes behind it, or nothing behind it,
+// if no number has this size.
 func PutNum(b []byte, size int, n uint64) []byte {
 	if !isNumSize(size) {
-		return nil
+		return clone(b)
 	}
 	return appendNum(roomy(b, size), size, n)
 }
 
-// PutLen tells b, and the length n behind it.
+// PutLen tells b, and the length n behind it, or nothing behind it, if n is
+// no length.
 func PutLen(b []byte, n int) []byte {
 	size := LenSize(n)
 	if size == 0 {
-		return nil
+		return clone(b)
 	}
 	return appendLen(roomy(b, size), n)
 }
 
-// PutVec tells b, and the vector of v behind it.
+// PutVec tells b, and the vector of v behind it, or nothing behind it, if v
+// is too long.
 func PutVec(b, v []byte) []byte {
 	size := LenSize(len(v))
 	if size == 0 {
-		return nil
+		return clone(b)
 	}
 	return appendVec(roomy(b, size+len(v)), v)
 }
 
-// PutList tells b, and the vector of all vectors of l behind it.
+// PutList tells b, and the vector of all vectors of l behind it, or nothing
+// behind it, if they are too long.
 func PutList(b []byte, l [][]byte) []byte {
 	n, ok := listLen(l)
 	if !ok {
-		return nil
+		return clone(b)
 	}
 	out := appendLen(roomy(b, LenSize(n)+n), n)
 	for _, v := range l {
